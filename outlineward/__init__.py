@@ -1,0 +1,1 @@
+"""Outlineward: programs that bear claims at their places."""

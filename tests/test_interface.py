@@ -1,0 +1,29 @@
+"""The interface: each name is there, with its arguments as they stand."""
+
+import importlib
+import inspect
+import unittest
+
+PROMISED = {
+    "errors.NoText": ["line"],
+    "stairs.stairs": ["base", "pairs"],
+    "stairs.entry": ["row", "p"],
+    "stairs.written": ["row", "p", "v"],
+    "claims.place_at": ["place", "numbers"],
+    "claims.term_at": ["term", "numbers", "rows"],
+    "claims.holds": ["claim", "numbers", "rows"],
+    "claims.turned": ["least"],
+    "claims.said": ["claim", "names"],
+}
+
+
+class Interface(unittest.TestCase):
+    def test_names_and_arguments(self):
+        for promised, arguments in PROMISED.items():
+            module, name = promised.split(".")
+            thing = getattr(importlib.import_module("outlineward." + module), name)
+            self.assertEqual(list(inspect.signature(thing).parameters), arguments, promised)
+
+
+if __name__ == "__main__":
+    unittest.main()
