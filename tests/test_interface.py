@@ -14,6 +14,12 @@ PROMISED = {
     "claims.holds": ["claim", "numbers", "rows"],
     "claims.turned": ["least"],
     "claims.said": ["claim", "names"],
+    "checks.check": ["program"],
+    "checks.numbers_of": ["proc"],
+    "reader.read": ["text"],
+    "reader.read_claim": ["text"],
+    "writer.shown": ["program"],
+    "writer.claim_text": ["claim"],
 }
 
 
