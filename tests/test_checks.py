@@ -17,6 +17,7 @@ def row_claims(r):
         each(HERE, THERE, r),
         each(HERE, THERE, r, "<=", num("p")),
         each(HERE, THERE, "r", ">=", ("row", r)),
+        each(HERE, THERE, r, ">=", ("row", "r")),
         rise(HERE, THERE, r),
     ]
 
@@ -311,6 +312,9 @@ class Numbers(unittest.TestCase):
 
     def test_one_that_check_refuses(self):
         self.told(["out", "p", "x"], proc("f", ["p"], body=[("any", "p"), ("call", "x", "no", ("p",), ("z",))]))
+
+    def test_a_row_used_as_a_number_is_no_number(self):
+        self.told(["out", "x"], proc("f", [], ["r"], body=[("set", "x", num("r"), 0), ("any", "r")]))
 
     def test_new_list_each_time(self):
         first = numbers_of(FILL[0])

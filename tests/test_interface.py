@@ -20,6 +20,12 @@ PROMISED = {
     "reader.read_claim": ["text"],
     "writer.shown": ["program"],
     "writer.claim_text": ["claim"],
+    "ties.settled": ["count", "ties"],
+    "straight.through": ["rows", "start"],
+    "book.booked": ["rows", "goal"],
+    "book.spots": ["rows", "goal"],
+    "book.width": ["rows", "goal"],
+    "papers.paper_holds": ["book", "paper"],
 }
 
 

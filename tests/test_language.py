@@ -47,6 +47,15 @@ def docstrings(tree):
     return told
 
 
+def own_tops(tree):
+    """The names that a file defines itself at its top."""
+    told = [node.name for node in tree.body if isinstance(node, (ast.FunctionDef, ast.ClassDef))]
+    for node in tree.body:
+        if isinstance(node, ast.Assign):
+            told.extend(target.id for target in node.targets)
+    return told
+
+
 class Language(unittest.TestCase):
     def test_l1_l14_files(self):
         names = [path.name for path in PACKAGE.iterdir() if path.name != "__pycache__"]
@@ -73,8 +82,7 @@ class Language(unittest.TestCase):
             if isinstance(node, ast.ImportFrom):
                 self.assertEqual(node.level, 0, name)
                 self.assertRegex(node.module, r"^outlineward\.[a-z_]+$", name)
-                tops = [top.name for top in files[node.module.split(".")[1]].body
-                        if isinstance(top, (ast.FunctionDef, ast.ClassDef))]
+                tops = own_tops(files[node.module.split(".")[1]])
                 for drawn in node.names:
                     self.assertIn(drawn.name, tops, name)
 
