@@ -56,6 +56,43 @@ def own_tops(tree):
     return told
 
 
+def given_names(tree):
+    """Parameters, locals and defs within defs, each with its line."""
+    told = []
+    for node in ast.walk(tree):
+        if isinstance(node, ast.FunctionDef):
+            for inner in ast.walk(node):
+                if isinstance(inner, ast.arg):
+                    told.append((inner.arg, inner.lineno))
+                elif isinstance(inner, ast.Name) and not isinstance(inner.ctx, ast.Load):
+                    told.append((inner.id, inner.lineno))
+                elif isinstance(inner, ast.FunctionDef) and inner is not node:
+                    told.append((inner.name, inner.lineno))
+    return told
+
+
+def drawn_files(tree):
+    return [node.module.split(".")[1] for node in tree.body if isinstance(node, ast.ImportFrom)]
+
+
+def is_walker(node):
+    """Whether it is one of the calls that are walked on the spot."""
+    if not isinstance(node, ast.Call):
+        return False
+    if isinstance(node.func, ast.Name):
+        return node.func.id in ("zip", "enumerate", "reversed", "range")
+    return isinstance(node.func, ast.Attribute) and node.func.attr in ("items", "keys", "values")
+
+
+def walks_on_the_spot(parent, node):
+    if isinstance(parent, (ast.For, ast.comprehension)):
+        return parent.iter is node
+    walkers = ("list", "tuple", "dict", "sorted", "sum", "any", "all", "enumerate", "zip", "bytes", "min", "max")
+    if isinstance(parent, ast.Call) and isinstance(parent.func, ast.Name):
+        return parent.func.id in walkers and parent.args[0] is node
+    return False
+
+
 class Language(unittest.TestCase):
     def test_l1_l14_files(self):
         names = [path.name for path in PACKAGE.iterdir() if path.name != "__pycache__"]
@@ -85,6 +122,52 @@ class Language(unittest.TestCase):
                 tops = own_tops(files[node.module.split(".")[1]])
                 for drawn in node.names:
                     self.assertIn(drawn.name, tops, name)
+
+    def test_l15_names_of_tops(self):
+        for path, text in sources():
+            tree = ast.parse(text)
+            drawn = [alias.asname or alias.name for node in tree.body if isinstance(node, ast.ImportFrom)
+                     for alias in node.names]
+            tops = own_tops(tree) + drawn
+            self.assertEqual(len(tops), len(set(tops)), path.name)
+            kept_free = drawn + [node.name for node in tree.body if isinstance(node, ast.ClassDef)]
+            for name, line in given_names(tree):
+                self.assertNotIn(name, kept_free, (path.name, line))
+
+    def test_l16_no_two_files_draw_from_one_another(self):
+        drawn = {path.stem: drawn_files(ast.parse(text)) for path, text in sources()}
+        while drawn:
+            free = [name for name in drawn if not any(other in drawn for other in drawn[name])]
+            self.assertNotEqual(free, [], drawn)
+            for name in free:
+                del drawn[name]
+
+    def test_names_that_are_drawn_are_used(self):
+        for path, text in sources():
+            tree = ast.parse(text)
+            used = {node.id for node in ast.walk(tree) if isinstance(node, ast.Name)}
+            for node in tree.body:
+                if isinstance(node, ast.ImportFrom):
+                    for alias in node.names:
+                        self.assertIn(alias.name, used, path.name)
+
+    def test_l18_l26_values_of_objects(self):
+        found = nodes()
+        methods = {node.func for name, node in found if isinstance(node, ast.Call)}
+        values = [(name, node) for name, node in found if isinstance(node, ast.Attribute) and node not in methods]
+        given = {node.attr for name, node in values if isinstance(node.ctx, ast.Store)}
+        free = {"count", "index", "title", "find", "get", "join", "lower", "upper", "split", "strip", "copy", "add"}
+        for value in given:
+            for kind in (str, int, list, dict, set, bytes, tuple):
+                self.assertFalse(hasattr(kind, value) and value not in free, value)
+        for name, node in values:
+            self.assertIn(node.attr, given, (name, node.lineno))
+
+    def test_l23_walked_at_once(self):
+        for name, parent in nodes():
+            for node in ast.iter_child_nodes(parent):
+                if is_walker(node):
+                    self.assertTrue(walks_on_the_spot(parent, node), (name, node.lineno))
 
     def test_l3_tops(self):
         for path, text in sources():
