@@ -26,6 +26,14 @@ PROMISED = {
     "book.spots": ["rows", "goal"],
     "book.width": ["rows", "goal"],
     "papers.paper_holds": ["book", "paper"],
+    "deciding.decided": ["rows", "goal"],
+    "duties.duties": ["program"],
+    "judging.judged": ["program"],
+    "running.run": ["program", "f", "numbers", "rows", "inputs", "most"],
+    "finding.greatest": ["program", "f", "path", "menu"],
+    "reaching.reached": ["program", "f", "most"],
+    "desk.judged_text": ["text"],
+    "desk.run_text": ["text", "numbers", "inputs", "most"],
 }
 
 
